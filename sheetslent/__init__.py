@@ -1,0 +1,1 @@
+"""Specimens in houses: owned, lent, lent on, lost, found, divided, determined."""
