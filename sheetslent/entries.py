@@ -2,9 +2,12 @@
 
 from sheetslent.lending import back_refusal, cede_refusal, extend_refusal, lend_refusal
 from sheetslent.lending import do_back, do_cede, do_extend, do_lend
-from sheetslent.making import do_gather, do_split, gather_refusal, split_refusal
+from sheetslent.making import destroy_refusal, gather_refusal, split_refusal
+from sheetslent.making import do_destroy, do_gather, do_split
+from sheetslent.naming import determine_refusal, do_determine, do_typify, typify_refusal
 from sheetslent.people import do_move, do_rank, move_refusal, rank_refusal
-from sheetslent.places import ARRIVE, BACK, CEDE, EXTEND, GATHER, GIVE, LEND, LOSE, MOVE, RANK, SPLIT
+from sheetslent.places import ARRIVE, BACK, CEDE, DESTROY, DETERMINE, EXTEND, FIND, GATHER, GIVE, LEND, LOSE, MOVE
+from sheetslent.places import RANK, SPLIT
 from sheetslent.things import Entry, Loan
 from sheetslent.travel import arrive_refusal, find_refusal, give_refusal, lose_refusal
 from sheetslent.travel import do_arrive, do_find, do_give, do_lose
@@ -48,7 +51,13 @@ def own_refusal(ledger, place, numbers, sheets):
         return extend_refusal(ledger, numbers[1], numbers[2])
     if place == LOSE:
         return lose_refusal(ledger, sheets)
-    return find_refusal(ledger, sheets)
+    if place == FIND:
+        return find_refusal(ledger, sheets)
+    if place == DESTROY:
+        return destroy_refusal(ledger, numbers[1])
+    if place == DETERMINE:
+        return determine_refusal(ledger, numbers[1], numbers[2], numbers[3], numbers[4])
+    return typify_refusal(ledger, numbers[1], numbers[2])
 
 
 def carry_out(ledger, place, numbers, sheets):
@@ -74,8 +83,14 @@ def carry_out(ledger, place, numbers, sheets):
         do_extend(ledger, numbers[1], numbers[2])
     elif place == LOSE:
         do_lose(ledger, sheets)
-    else:
+    elif place == FIND:
         do_find(ledger, sheets)
+    elif place == DESTROY:
+        do_destroy(ledger, numbers[1])
+    elif place == DETERMINE:
+        do_determine(ledger, numbers[0], numbers[1], numbers[2], numbers[3], numbers[4])
+    else:
+        do_typify(ledger, numbers[1], numbers[2])
 
 
 def loan_told(numbers):

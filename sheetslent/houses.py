@@ -2,7 +2,8 @@
 
 from sheetslent.entries import enter
 from sheetslent.people import add_house, add_person
-from sheetslent.places import HOUSE, NUMBER_COUNTS, PERSON, PLACES_WITH_SHEETS
+from sheetslent.places import HOUSE, NUMBER_COUNTS, PERSON, PLACES_WITH_SHEETS, WHERE
+from sheetslent.questions import ask
 from sheetslent.things import Ledger
 
 
@@ -31,4 +32,7 @@ def answer_of(ledger, place, numbers, sheets):
         return [add_house(ledger, numbers[0])]
     if place == PERSON:
         return [add_person(ledger, numbers[0], numbers[1], numbers[2])]
-    return [enter(ledger, place, numbers, sheets)]
+    # The questions stand behind the entries; where is the first of them.
+    if place < WHERE:
+        return [enter(ledger, place, numbers, sheets)]
+    return ask(ledger, place, numbers)

@@ -1,6 +1,6 @@
-"""Entries that make sheets: gather, split."""
+"""Entries that make sheets or end them: gather, split, destroy."""
 
-from sheetslent.things import DIVIDED, HERE, Sheet
+from sheetslent.things import DESTROYED, DIVIDED, HERE, Sheet, unlent_sheet_refusal
 from sheetslent.words import MOST_SHEETS, is_key
 
 
@@ -64,3 +64,11 @@ def do_split(ledger, key, first, n):
         ledger.sheets[part_key] = part_of(sheet)
     sheet.status = DIVIDED
     sheet.loans = []
+
+
+def destroy_refusal(ledger, key):
+    return unlent_sheet_refusal(ledger, key)
+
+
+def do_destroy(ledger, key):
+    ledger.sheets[key].status = DESTROYED

@@ -1,10 +1,11 @@
-"""What there is: persons, loans, sheets, the log's entries, and the ledger that holds them all."""
+"""What there is: persons, loans, determinations, sheets, the log's entries, and the ledger that holds them all."""
 
 from sheetslent.words import is_right_list
 
 HERE = 0
 ON_THE_WAY = 1
 LOST = 2
+DESTROYED = 3
 DIVIDED = 4
 
 
@@ -12,6 +13,9 @@ class Person:
     def __init__(self, house, rank):
         self.house = house
         self.rank = rank
+        # Where the person began: the past is told from there on, and the log doesn't hold it.
+        self.first_house = house
+        self.first_rank = rank
 
 
 class Loan:
@@ -20,6 +24,16 @@ class Loan:
         self.borrower = borrower
         self.due = due
         self.onward = onward
+
+
+class Determination:
+    def __init__(self, day, person, rank, name, conf):
+        self.day = day
+        self.person = person
+        # The rank of that moment: a later one doesn't change what was said before.
+        self.rank = rank
+        self.name = name
+        self.conf = conf
 
 
 class Sheet:
@@ -68,6 +82,10 @@ def last_loan_of(ledger, sheet):
     return ledger.loans[sheet.loans[-1]]
 
 
+def is_gone(sheet):
+    return sheet.status in (DESTROYED, DIVIDED)
+
+
 def sheets_with(ledger, keys):
     return [ledger.sheets[key] for key in keys]
 
@@ -78,4 +96,18 @@ def list_refusal(ledger, keys, wrong_list):
         return wrong_list
     if not all([key in ledger.sheets for key in keys]):
         return wrong_list - 1
+    return 0
+
+
+def unlent_sheet_refusal(ledger, key):
+    """Answer the refusals that destroy and typify begin with: a sheet that's away, lent, or stands for a name."""
+    if key not in ledger.sheets:
+        return -2
+    sheet = ledger.sheets[key]
+    if sheet.status != HERE:
+        return -3
+    if len(sheet.loans) > 0:
+        return -4
+    if sheet.typified != 0:
+        return -5
     return 0

@@ -65,6 +65,62 @@ def find(day, sheets):
     return [13, day, len(sheets)] + sheets
 
 
+def destroy(day, sheet):
+    return [14, day, sheet]
+
+
+def determine(day, sheet, who, called, conf):
+    return [15, day, sheet, who, called, conf]
+
+
+def typify(day, sheet, called):
+    return [16, day, sheet, called]
+
+
+def where(sheet, day):
+    return [17, sheet, day]
+
+
+def custody(sheet, day):
+    return [18, sheet, day]
+
+
+def name(sheet, day):
+    return [19, sheet, day]
+
+
+def dets(sheet, day):
+    return [20, sheet, day]
+
+
+def inside(house_key, day):
+    return [21, house_key, day]
+
+
+def books(house_key, day):
+    return [22, house_key, day]
+
+
+def overdue(day):
+    return [23, day]
+
+
+def gathering(key, day):
+    return [24, key, day]
+
+
+def types(called, day):
+    return [25, called, day]
+
+
+def history(sheet):
+    return [26, sheet]
+
+
+def log():
+    return [27]
+
+
 # Four houses; 11 and 12 work in 1 and 2; house 1 owns the sheets 1 to 8, house 2 the sheets 21 to 24.
 START = [house(1), house(2), house(3), house(4), person(11, 1, 5), person(12, 2, 3),
          gather(0, 101, 11, 8, 1), gather(0, 102, 12, 4, 21)]
@@ -95,9 +151,14 @@ def last(calls):
     return numbers(calls)[-1]
 
 
+def asked(calls, questions):
+    """The answers of the questions behind the calls, one list for each."""
+    return told(calls + questions)[len(calls):]
+
+
 def done(calls):
     """The same calls, if none of them is refused: a line that a test builds on must not be refused unseen."""
-    refused = [pair for pair in zip(calls, numbers(calls)) if pair[1] < 0]
+    refused = [pair for pair in zip(calls, told(calls)) if pair[1][0] < 0]
     assert refused == [], "refused: %r" % refused
     return calls
 

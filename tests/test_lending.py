@@ -2,8 +2,9 @@
 
 import unittest
 
-from tests.helper import (GREATEST_DAY, GREATEST_KEY, GREATEST_NUMBER, LEAST_NUMBER, START, arrive, back, cede, done,
-                          extend, find, gather, give, last, lend, lose, numbers, picture, split, status_of)
+from tests.helper import (GREATEST_DAY, GREATEST_KEY, GREATEST_NUMBER, LEAST_NUMBER, START, arrive, back, cede, destroy,
+                          done, extend, find, gather, give, last, lend, lose, numbers, picture, split, status_of,
+                          typify)
 
 EIGHT = [1, 2, 3, 4, 5, 6, 7, 8]
 WRONG_LISTS = ([], [1, 1], [1, 2, 3, 1], EIGHT + [21], EIGHT + [1], EIGHT + EIGHT, [99, 99], list(range(31, 47)))
@@ -250,6 +251,16 @@ class CedeTest(unittest.TestCase):
         line = done(START + [lose(0, [1]), lend(0, 1, 1, 2, 9, 0, [3]), arrive(0, [3])])
         wrong = [cede(-1, 99), cede(0, 99), cede(0, 1), cede(0, 2), cede(0, 3)]
         self.assertEqual(numbers(line + wrong)[-5:], [-1, -2, -3, -4, 6])
+
+    def test_a_type_is_not_ceded(self):
+        line = done(START + [typify(0, 1, 70), typify(0, 2, 70), typify(0, 3, 70), lend(0, 1, 1, 2, 9, 0, [1, 2, 4]),
+                             arrive(0, [2, 4])])
+        self.assertEqual(numbers(line + [cede(0, 1), cede(0, 2), cede(0, 3), cede(0, 4)])[-4:], [-3, -5, -4, 8])
+        self.assertEqual(picture(line + [cede(0, 2)], 2), ("here", 1, [1], 2))
+
+    def test_a_destroyed_sheet_is_neither_ceded_nor_lent_nor_sent_back(self):
+        line = done(START + [destroy(0, 1)])
+        self.assertEqual(numbers(line + [cede(0, 1), lend(0, 1, 1, 2, 9, 0, [1]), back(0, 1, [1])])[-3:], [-3, -10, -4])
 
     def test_a_refused_cede_changes_nothing(self):
         line = START + [lend(0, 1, 1, 2, 9, 0, [1]), cede(5, 1), cede(5, 2)]

@@ -1,10 +1,11 @@
-"""Points 5 and 6: gather, split."""
+"""Points 5, 6 and 15: gather, split, destroy."""
 
 import unittest
 
-from tests.helper import (GREATEST_KEY, GREATEST_NUMBER, LEAST_NUMBER, START, arrive, back, cede, done, extend, find,
-                          gather, give, holder_of, house, last, lend, lose, move, numbers, person, picture, split,
-                          status_of)
+from tests.helper import (GREATEST_KEY, GREATEST_NUMBER, LEAST_NUMBER, START, arrive, asked, back, books, cede, custody,
+                          destroy, determine, dets, done, extend, find, gather, gathering, give, holder_of, house,
+                          inside, last, lend, log, lose, move, name, numbers, person, picture, rank, split, status_of,
+                          types, typify, where)
 
 # 56 sheets, of seven gatherings.
 FIFTY_SIX = [house(1), person(11, 1, 5)] + [gather(0, key, 11, 8, key * 10) for key in range(1, 8)]
@@ -19,6 +20,15 @@ class GatherTest(unittest.TestCase):
 
     def test_the_entry_s_number(self):
         self.assertEqual(numbers(START)[-2:], [1, 2])
+
+    def test_new_sheets_are_of_the_gathering_without_loans_determinations_or_type(self):
+        line = done(START + [determine(0, 1, 11, 70, 0), typify(0, 1, 70), gather(4, 9, 11, 2, 70)])
+        self.assertEqual(asked(line, [gathering(9, 4)]), [[2, 70, 0, 71, 0]])
+        for sheet in (70, 71):
+            self.assertEqual(asked(line, [where(sheet, 4), custody(sheet, 4), dets(sheet, 4), name(sheet, 4)]),
+                             [[0, 1], [1, 0], [0], [0, 0]])
+        self.assertEqual(asked(line, [types(70, 4)]), [[1, 1]])
+        self.assertEqual(numbers(line + [typify(4, 70, 70)])[-1], 6)
 
     def test_the_gathering_s_key_at_the_edges(self):
         keys = [LEAST_NUMBER, -1, 0, 1, GREATEST_KEY, GREATEST_KEY + 1, GREATEST_NUMBER]
@@ -56,8 +66,10 @@ class GatherTest(unittest.TestCase):
                         gather(0, 1, 11, 1, 22), gather(0, 1, 11, 2, 19), gather(0, 2, 11, 2, 25)]
         self.assertEqual(numbers(line)[-6:], [-7, -7, -7, -7, 3, 4])
 
-    def test_keys_of_divided_and_lost_sheets_are_taken(self):
-        line = done(START + [split(0, 1, 50, 2), lose(0, [2])])
+    def test_keys_of_divided_destroyed_and_lost_sheets_are_taken(self):
+        line = done(START + [split(0, 1, 50, 2), lose(0, [2]), destroy(0, 3)])
+        self.assertEqual(last(line + [gather(0, 1, 11, 1, 3)]), -7)
+        self.assertEqual(last(line + [split(0, 4, 3, 2)]), -7)
         self.assertEqual(last(line + [gather(0, 1, 11, 1, 1)]), -7)
         self.assertEqual(last(line + [gather(0, 1, 11, 1, 2)]), -7)
         self.assertEqual(last(line + [gather(0, 1, 11, 1, 51)]), -7)
@@ -66,10 +78,10 @@ class GatherTest(unittest.TestCase):
         self.assertEqual(numbers(FIFTY_SIX + [gather(0, 8, 11, 5, 80), gather(0, 8, 11, 4, 80),
                                               gather(0, 9, 11, 1, 90)])[-3:], [-8, 8, -8])
 
-    def test_divided_and_lost_sheets_count_among_the_sixty(self):
-        line = done(FIFTY_SIX + [split(0, 10, 80, 2), lose(0, [11])])
+    def test_divided_destroyed_and_lost_sheets_count_among_the_sixty(self):
+        line = done(FIFTY_SIX + [split(0, 10, 80, 2), lose(0, [11]), destroy(0, 12)])
         self.assertEqual(last(line + [gather(0, 8, 11, 3, 90)]), -8)
-        self.assertEqual(last(line + [gather(0, 8, 11, 2, 90)]), 10)
+        self.assertEqual(last(line + [gather(0, 8, 11, 2, 90)]), 11)
 
     def test_refusals_in_their_order(self):
         wrong = [gather(-1, 0, 10, 0, 0), gather(0, 0, 10, 0, 0), gather(0, 1, 10, 0, 0), gather(0, 9, 10, 0, 0),
@@ -124,6 +136,35 @@ class SplitTest(unittest.TestCase):
         sent_back = done(line + [back(1, 1, [50, 51])])
         self.assertEqual(last(sent_back + [extend(1, 1, 95)]), -3)
 
+    def test_the_parts_have_its_gathering(self):
+        line = done(START + [split(1, 22, 50, 2)])
+        self.assertEqual(asked(line, [gathering(102, 1), gathering(101, 1)])[0], [5, 21, 0, 23, 0, 24, 0, 50, 0, 51, 0])
+        self.assertEqual(asked(line, [gathering(101, 1)])[0][0], 8)
+
+    def test_the_parts_have_its_determinations(self):
+        said = [determine(1, 1, 11, 70, 2), rank(1, 11, 4), determine(1, 1, 11, 71, 0)]
+        line = done(START + said + [rank(2, 11, 9), split(2, 1, 50, 2)])
+        for sheet in (1, 50, 51):
+            self.assertEqual(asked(line, [dets(sheet, 2), name(sheet, 2)]),
+                             [[2, 1, 11, 70, 2, 0, 1, 11, 71, 0, 4], [71, 4]])
+
+    def test_what_is_said_of_one_part_is_said_of_it_alone(self):
+        line = done(START + [determine(1, 1, 11, 70, 2), split(2, 1, 50, 2), determine(3, 50, 11, 71, 0)])
+        self.assertEqual(asked(line, [dets(50, 3), name(50, 3)]), [[2, 1, 11, 70, 2, 0, 3, 11, 71, 0, 5], [71, 5]])
+        for sheet in (1, 51):
+            self.assertEqual(asked(line, [dets(sheet, 3), name(sheet, 3)]), [[1, 1, 11, 70, 2, 15], [70, 15]])
+
+    def test_where_and_custody_of_the_divided_sheet_and_its_parts(self):
+        line = done(START + LENT_ON + [split(3, 1, 50, 2)])
+        self.assertEqual(asked(line, [where(1, 3), custody(1, 3)]), [[4, 0], [1, 0]])
+        for sheet in (50, 51):
+            self.assertEqual(asked(line, [where(sheet, 3), custody(sheet, 3)]), [[0, 3], [1, 2, 1, 2, 90, 2, 3, 80]])
+
+    def test_a_type_is_not_split(self):
+        line = done(START + [typify(0, 1, 70), typify(0, 2, 70), lose(0, [2])])
+        wrong = [split(0, 1, 50, 2), split(0, 1, 50, 5), split(0, 2, 50, 2), split(0, 3, 50, 2)]
+        self.assertEqual(numbers(line + wrong)[-4:], [-4, -4, -3, 6])
+
     def test_a_part_is_split_again(self):
         line = done(START + [split(0, 1, 50, 2), split(0, 50, 60, 2)])
         self.assertEqual([status_of(line, key) for key in (1, 50, 51, 60, 61)],
@@ -134,7 +175,8 @@ class SplitTest(unittest.TestCase):
             self.assertEqual(last(START + [split(0, sheet, 50, 2)]), -2)
 
     def test_it_is_not_here(self):
-        for away in (lose(0, [1]), give(0, 1, 2, [1]), lend(0, 1, 1, 2, 9, 0, [1]), split(0, 1, 70, 2)):
+        for away in (lose(0, [1]), give(0, 1, 2, [1]), lend(0, 1, 1, 2, 9, 0, [1]), split(0, 1, 70, 2),
+                     destroy(0, 1)):
             self.assertEqual(numbers(START + [away, split(0, 1, 50, 2)])[-2:], [3, -3])
 
     def test_n_at_the_edges(self):
@@ -175,6 +217,60 @@ class SplitTest(unittest.TestCase):
         line = START + [split(9, 1, 24, 2), split(9, 1, 50, 5)]
         self.assertEqual(numbers(line + [split(0, 1, 50, 2)])[-3:], [-7, -5, 3])
         self.assertEqual(holder_of(line, 1), 1)
+
+
+class DestroyTest(unittest.TestCase):
+    def test_the_sheet_is_destroyed(self):
+        line = done(START + [destroy(3, 1)])
+        self.assertEqual(last(line), 3)
+        self.assertEqual(asked(line, [where(1, 3), custody(1, 3), where(2, 3)]), [[3, 0], [1, 0], [0, 1]])
+        self.assertEqual(asked(line, [inside(1, 3), books(1, 3)]), [[7, 2, 3, 4, 5, 6, 7, 8], [5, 7, 0, 0, 0, 0]])
+        self.assertEqual(asked(line, [gathering(101, 3)]), [[7, 2, 0, 3, 0, 4, 0, 5, 0, 6, 0, 7, 0, 8, 0]])
+
+    def test_nothing_is_done_with_a_destroyed_sheet(self):
+        line = done(START + [destroy(0, 1)])
+        wrong = [split(0, 1, 60, 2), lend(0, 1, 1, 2, 9, 0, [1]), arrive(0, [1]), back(0, 1, [1]),
+                 give(0, 1, 2, [1]), cede(0, 1), lose(0, [1]), find(0, [1]), destroy(0, 1),
+                 determine(0, 1, 11, 70, 0), typify(0, 1, 70)]
+        self.assertEqual(numbers(line + wrong)[-11:], [-3, -10, -4, -4, -6, -3, -4, -4, -3, -4, -3])
+        self.assertEqual(last(line + [lend(0, 1, 1, 2, 9, 0, [2, 1])]), -10)
+
+    def test_what_was_said_of_it_stays(self):
+        line = done(START + [determine(1, 1, 11, 70, 1), destroy(2, 1)])
+        self.assertEqual(asked(line, [name(1, 2), dets(1, 2)]), [[70, 10], [1, 1, 11, 70, 1, 10]])
+
+    def test_it_can_be_destroyed_when_its_loan_is_over(self):
+        loan = [lend(0, 1, 1, 2, 9, 0, [1]), arrive(0, [1])]
+        self.assertEqual(last(done(START + loan + [back(0, 1, [1]), arrive(0, [1]), destroy(0, 1)])), 7)
+        ceded = done(START + loan + [cede(0, 1), destroy(0, 1)])
+        self.assertEqual(asked(ceded, [where(1, 0), custody(1, 0)]), [[3, 0], [2, 0]])
+
+    def test_no_such_sheet(self):
+        for sheet in (0, -1, 9, 101, LEAST_NUMBER, GREATEST_NUMBER):
+            self.assertEqual(last(START + [destroy(0, sheet)]), -2)
+
+    def test_it_is_not_here(self):
+        for away in (lose(0, [1]), give(0, 1, 2, [1]), lend(0, 1, 1, 2, 9, 0, [1]), split(0, 1, 70, 2)):
+            self.assertEqual(numbers(START + [away, destroy(0, 1)])[-2:], [3, -3])
+
+    def test_it_has_loans(self):
+        self.assertEqual(last(START + LENT_ON + [destroy(2, 1)]), -4)
+        self.assertEqual(last(START + LENT_ON[:2] + [destroy(2, 1)]), -4)
+
+    def test_it_is_a_type(self):
+        line = done(START + [typify(0, 1, 70)])
+        self.assertEqual(numbers(line + [destroy(0, 1), destroy(0, 2)])[-2:], [-5, 4])
+
+    def test_refusals_in_their_order(self):
+        line = done(START + [typify(0, 1, 70), typify(0, 2, 70), typify(0, 3, 70), lend(0, 1, 1, 2, 9, 0, [1, 2]),
+                             arrive(0, [2])])
+        wrong = [destroy(-1, 99), destroy(0, 99), destroy(0, 1), destroy(0, 2), destroy(0, 3), destroy(0, 4)]
+        self.assertEqual(numbers(line + wrong)[-6:], [-1, -2, -3, -4, -5, 8])
+
+    def test_a_refused_destroy_changes_nothing(self):
+        line = START + LENT_ON + [destroy(9, 1)]
+        self.assertEqual(asked(line, [where(1, 9), custody(1, 9), log()]),
+                         [[0, 3], [1, 2, 1, 2, 90, 2, 3, 80], [6, 2]])
 
 
 if __name__ == "__main__":

@@ -2,8 +2,8 @@
 
 import unittest
 
-from tests.helper import (START, arrive, back, cede, done, find, give, last, lend, lose, numbers, picture, split,
-                          status_of)
+from tests.helper import (START, arrive, asked, back, cede, custody, destroy, done, find, give, last, lend, lose,
+                          numbers, picture, split, status_of, typify)
 
 EIGHT = [1, 2, 3, 4, 5, 6, 7, 8]
 WRONG_LISTS = ([], [1, 1], [1, 2, 3, 1], EIGHT + [21], EIGHT + [1], EIGHT + EIGHT, [99, 99], list(range(31, 47)))
@@ -98,10 +98,18 @@ class GiveTest(unittest.TestCase):
         line = done(START + [lend(0, 1, 1, 2, 9, 0, [1]), arrive(0, [1]), cede(0, 1)])
         self.assertEqual(numbers(line + [give(0, 1, 3, [1]), give(0, 2, 3, [1])])[-2:], [-6, 6])
 
+    def test_a_type_is_not_given(self):
+        line = done(START + [typify(0, 1, 70)])
+        for sheets, answer in (([1], -7), ([2, 1], -7), ([1, 2], -7), ([2], 4), ([1, 21], -6), ([21, 1], -6)):
+            with self.subTest(sheets=sheets):
+                self.assertEqual(last(line + [give(0, 1, 2, sheets)]), answer)
+        self.assertEqual(asked(line + [give(0, 1, 2, [2, 1])], [custody(2, 0)]), [[1, 0]])
+
     def test_refusals_in_their_order(self):
+        line = done(START + [typify(0, 1, 70), lose(0, [1])])
         wrong = [give(-1, 9, 9, []), give(0, 9, 9, []), give(0, 1, 9, []), give(0, 1, 2, [99, 99]),
-                 give(0, 1, 2, [99, 21]), give(0, 1, 2, [21]), give(0, 1, 2, [1])]
-        self.assertEqual(numbers(START + wrong)[-7:], [-1, -2, -3, -4, -5, -6, 3])
+                 give(0, 1, 2, [99, 21]), give(0, 1, 2, [1]), find(0, [1]), give(0, 1, 2, [1]), give(0, 1, 2, [2])]
+        self.assertEqual(numbers(line + wrong)[-9:], [-1, -2, -3, -4, -5, -6, 5, -7, 6])
 
     def test_a_refused_give_changes_nothing(self):
         line = START + [give(9, 1, 2, [1, 21]), give(9, 1, 2, [1, 99])]
@@ -152,6 +160,10 @@ class FindTest(unittest.TestCase):
         self.assertEqual(picture(line, 2), ("here", 1, [1], 2))
         self.assertEqual(picture(line, 5), ("here", 2, [], 2))
         self.assertEqual(picture(line, 1), ("lost", 1, [], 1))
+
+    def test_a_destroyed_sheet_neither_arrives_nor_is_lost_or_found(self):
+        line = done(START + [destroy(0, 1)])
+        self.assertEqual(numbers(line + [arrive(0, [1]), lose(0, [1]), lose(0, [2, 1]), find(0, [1])])[-4:], [-4] * 4)
 
     def test_lost_and_found_again_and_again(self):
         line = done(START + [lose(0, [1]), find(0, [1]), lose(0, [1]), find(0, [1])])
